@@ -12,6 +12,8 @@ from ringshares.errors import (
     InvalidSpread,
     InvalidText,
     NoRoom,
+    NotARing,
+    OtherPoints,
     UnknownName,
 )
 from ringshares.limits import MOST_FACTOR, MOST_HOSTS, MOST_MARKS, MOST_POINTS
@@ -49,6 +51,40 @@ def check_hosts(points, hosts):
     for index, host in enumerate(hosts):
         if index == MOST_HOSTS or not is_next_host(host, points, hosts[:index]):
             raise InvalidHosts(index)
+
+
+def check_point(ring, point):
+    """Raises InvalidPoint if this is no key of the ring."""
+    if not is_from_to(point, 0, ring.points - 1):
+        raise InvalidPoint(point)
+
+
+def check_name(ring, name):
+    """Raises UnknownName if no host of the ring has this name."""
+    if name not in ring:
+        raise UnknownName(name)
+
+
+def new_racks_first(ring, walk):
+    """Returns the names of a walk, first those whose rack none ahead of them has."""
+    rack_of = {name: rack for name, rack, _ in ring.hosts}
+    racks = []
+    firsts = []
+    others = []
+    for name in walk:
+        rack = rack_of[name]
+        if rack in racks:
+            others.append(name)
+        else:
+            racks.append(rack)
+            firsts.append(name)
+    return tuple(firsts + others)
+
+
+def keepers_in(ring, walk):
+    """Returns the names of the keepers of a key of the ring with this walk, in their order."""
+    names = new_racks_first(ring, walk) if ring.spread == "racks" else walk
+    return names[:ring.factor]
 
 
 def host_row(host):
@@ -181,17 +217,13 @@ class Ring:
 
     def walk(self, point):
         """Returns the names of all hosts as the walk of this key meets them."""
-        if not is_from_to(point, 0, self._points - 1):
-            raise InvalidPoint(point)
+        check_point(self, point)
         met = sorted([(self._way(point, host[2]), host[0]) for host in self._hosts])
         return tuple([name for _, name in met])
 
     def keepers(self, point):
         """Returns the names of the keepers of this key, in their order."""
-        names = self.walk(point)
-        if self._spread == "racks":
-            names = self._new_racks_first(names)
-        return names[:self._factor]
+        return keepers_in(self, self.walk(point))
 
     def joined(self, name, rack, marks):
         """Returns the ring with this host behind the others."""
@@ -207,8 +239,7 @@ class Ring:
 
     def left(self, name):
         """Returns the ring without this host."""
-        if name not in self:
-            raise UnknownName(name)
+        check_name(self, name)
         if len(self._hosts) == 1:
             raise NoRoom(name)
         return self._with_hosts(tuple([host for host in self._hosts if host[0] != name]))
@@ -225,19 +256,20 @@ class Ring:
         # How far a walk from the point goes until it meets the first of the marks.
         return min([(mark - point) % self._points for mark in marks])
 
-    def _new_racks_first(self, names):
-        racks = []
-        firsts = []
-        others = []
-        for name in names:
-            rack, _ = self[name]
-            if rack in racks:
-                others.append(name)
-            else:
-                racks.append(rack)
-                firsts.append(name)
-        return tuple(firsts + others)
-
     def _with_hosts(self, hosts):
         read = self._read_number
         return Ring(self._points, self._factor, self._spread, self._write, read, self._pending, hosts)
+
+
+def check_ring(ring):
+    """Raises NotARing if this is no ring."""
+    if not isinstance(ring, Ring):
+        raise NotARing(ring)
+
+
+def check_rings(one, other):
+    """Raises NotARing for the first that is no ring, OtherPoints if their points are not as many."""
+    check_ring(one)
+    check_ring(other)
+    if one.points != other.points:
+        raise OtherPoints(other)

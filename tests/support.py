@@ -2,6 +2,7 @@
 
 import re
 
+from ringshares.errors import InvalidText
 from ringshares.rings import Ring
 
 PLAIN_HOSTS = (("a", "r1", (2,)), ("b", "r1", (5,)), ("c", "r2", (9,)))
@@ -57,6 +58,60 @@ def assert_raises_with(case, error, attribute, value, call, *given, **named):
         call(*given, **named)
     case.assertIs(caught.exception.__class__, error)
     case.assertIs(getattr(caught.exception, attribute), value)
+
+
+class Judged:
+    """What the tests of texts share: the texts of a class of objects, and all others.
+
+    A class of tests sets `of`, the class of objects, and `is_text`, which tells what their texts are.
+    """
+
+    def assert_no_text(self, value):
+        assert_raises_with(self, InvalidText, "given", value, self.of.read, value)
+        assert_raises_with(self, InvalidText, "given", value, self.of.read, text=value)
+
+    def assert_judged(self, text):
+        """Holds that just the texts of such objects are read."""
+        if self.is_text(text):
+            self.assertEqual(str(self.of.read(text)), text)
+        else:
+            self.assert_no_text(text)
+
+
+def bent_by_signs(text, signs):
+    """Returns the texts with a sign too many, too few or otherwise, and those that are cut."""
+    bent = []
+    for k in range(len(text) + 1):
+        bent += [text[:k] + text[k + 1:], text[:k]]
+        for sign in signs:
+            bent += [text[:k] + sign + text[k:], text[:k] + sign + text[k + 1:]]
+    return bent
+
+
+def bent_by_words(text, words, first=0):
+    """Returns the texts with a word too many, too few or otherwise in a row from the first one on."""
+    bent = []
+    rows = text.split("\n")
+    for at in range(first, len(rows)):
+        parts = rows[at].split(" ")
+        for k in range(len(parts) + 1):
+            others = [parts[:k] + parts[k + 1:]]
+            others += [parts[:k] + [word] + parts[k:] for word in words]
+            others += [parts[:k] + [word] + parts[k + 1:] for word in words]
+            bent += ["\n".join(rows[:at] + [" ".join(other)] + rows[at + 1:]) for other in others]
+    return bent
+
+
+def bent_by_rows(text, more):
+    """Returns the texts with a row too many, too few or otherwise."""
+    bent = []
+    rows = text.split("\n")
+    for k in range(len(rows) + 1):
+        others = [rows[:k] + rows[k + 1:]]
+        others += [rows[:k] + [row] + rows[k:] for row in more]
+        others += [rows[:k] + [row] + rows[k + 1:] for row in more]
+        bent += ["\n".join(other) for other in others]
+    return bent
 
 
 class Numbers:

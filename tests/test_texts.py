@@ -2,10 +2,10 @@
 
 import unittest
 
-from ringshares.errors import InvalidText
 from ringshares.rings import Ring
 from tests.support import (
-    APART_TEXT, ODD_VALUES, PLAIN_TEXT, assert_raises_with, full_hosts, is_ring_text, mixed_rings, plain_ring,
+    APART_TEXT, ODD_VALUES, PLAIN_TEXT, Judged, bent_by_rows, bent_by_signs, bent_by_words, full_hosts, is_ring_text,
+    mixed_rings, plain_ring,
 )
 
 MOST = 10 ** 18
@@ -38,51 +38,29 @@ class Written(unittest.TestCase):
         self.assertEqual(str(Ring.read(text)), text)
 
 
-class Judged(unittest.TestCase):
-    def assert_no_text(self, value):
-        assert_raises_with(self, InvalidText, "given", value, Ring.read, value)
-        assert_raises_with(self, InvalidText, "given", value, Ring.read, text=value)
-
-    def assert_judged(self, text):
-        """Holds that just the texts of rings are read."""
-        if is_ring_text(text):
-            self.assertEqual(str(Ring.read(text)), text)
-        else:
-            self.assert_no_text(text)
+class Texts(Judged, unittest.TestCase):
+    of = Ring
+    is_text = staticmethod(is_ring_text)
 
     def test_values_that_are_no_strings(self):
         for value in ODD_VALUES + (0, 12, PLAIN_TEXT.encode(), [PLAIN_TEXT], (PLAIN_TEXT,), PLAIN_TEXT.split("\n")):
             self.assert_no_text(value)
 
     def test_a_sign_too_many_too_few_or_otherwise(self):
-        for text in (PLAIN_TEXT, APART_TEXT, LARGE_TEXT):
-            for k in range(len(text) + 1):
-                self.assert_judged(text[:k] + text[k + 1:])
-                self.assert_judged(text[:k])
-                for sign in SIGNS:
-                    self.assert_judged(text[:k] + sign + text[k:])
-                    self.assert_judged(text[:k] + sign + text[k + 1:])
+        for whole in (PLAIN_TEXT, APART_TEXT, LARGE_TEXT):
+            for text in bent_by_signs(whole, SIGNS):
+                self.assert_judged(text)
 
     def test_a_word_too_many_too_few_or_otherwise(self):
         words = ("ring", "host", "hosts", "racks", "plain", "with", "a", "r1", "0", "1", "3", "6", "12", "plan", "")
-        rows = PLAIN_TEXT.split("\n")
-        for at, row in enumerate(rows):
-            parts = row.split(" ")
-            for k in range(len(parts) + 1):
-                others = [parts[:k] + parts[k + 1:]]
-                others += [parts[:k] + [word] + parts[k:] for word in words]
-                others += [parts[:k] + [word] + parts[k + 1:] for word in words]
-                for other in others:
-                    self.assert_judged("\n".join(rows[:at] + [" ".join(other)] + rows[at + 1:]))
+        for text in bent_by_words(PLAIN_TEXT, words):
+            self.assert_judged(text)
 
     def test_a_row_too_many_too_few_or_otherwise(self):
         rows = PLAIN_TEXT.split("\n")
         more = rows + ["", " ", "plan", "host", "host d", "host d r2", "host d r2 0", "host a r2 0", "host d r2 5"]
-        for k in range(len(rows) + 1):
-            self.assert_judged("\n".join(rows[:k] + rows[k + 1:]))
-            for row in more:
-                self.assert_judged("\n".join(rows[:k] + [row] + rows[k:]))
-                self.assert_judged("\n".join(rows[:k] + [row] + rows[k + 1:]))
+        for text in bent_by_rows(PLAIN_TEXT, more):
+            self.assert_judged(text)
         for text in ("", "\n", "ring", "host", rows[0], rows[0] + "\n", "\n".join(rows[1:]), "\n".join(rows[::-1])):
             self.assert_no_text(text)
 
