@@ -1,4 +1,4 @@
-"""What an integer, a name, an ascending row and a written number are."""
+"""What an integer, a name, an ascending row, a tuple of some form and a written number are."""
 
 LETTERS = "abcdefghijklmnopqrstuvwxyz"
 DIGITS = "0123456789"
@@ -32,6 +32,28 @@ def is_name(value):
 def is_ascending(row):
     """Tells whether each element of row is greater than the one before it."""
     return all([one < other for one, other in zip(row, row[1:])])
+
+
+def is_form_of(value, forms):
+    """Tells whether value is a tuple of one of these forms, pairs of its first word and its length."""
+    if not isinstance(value, tuple) or len(value) == 0 or not isinstance(value[0], str):
+        return False
+    return (value[0], len(value)) in forms
+
+
+def lots(row, many):
+    """Returns all tuples of so many elements of an ascending row, in its order, ascending."""
+    found = [()]
+    for one in row:
+        found = found + [lot + (one,) for lot in found if len(lot) < many]
+    return sorted([lot for lot in found if len(lot) == many])
+
+
+def is_lot_of(value, many, words):
+    """Tells whether value is an ascending tuple of so many of these strings."""
+    if not isinstance(value, tuple) or len(value) != many:
+        return False
+    return all([is_word_of(word, words) for word in value]) and is_ascending(value)
 
 
 def is_written_number(word):

@@ -1,6 +1,6 @@
 """Plans: a ring and the steps that lead it on, from moment to moment."""
 
-from ringshares.basics import is_from_to, written_number
+from ringshares.basics import is_form_of, is_from_to, written_number
 from ringshares.errors import (
     BadValue,
     InvalidMarks,
@@ -10,6 +10,7 @@ from ringshares.errors import (
     InvalidSteps,
     InvalidText,
     NoRoom,
+    NotAPlan,
     UnknownName,
 )
 from ringshares.limits import MOST_STEPS
@@ -101,7 +102,9 @@ def behind_repair(state, step):
     return state
 
 
-LENGTHS = {"join": 4, "leave": 2, "copy": 3, "settle": 1, "down": 2, "up": 2, "wipe": 2, "repair": 3}
+FORMS = (
+    ("join", 4), ("leave", 2), ("copy", 3), ("settle", 1), ("down", 2), ("up", 2), ("wipe", 2), ("repair", 3),
+)
 ACTIONS = {
     "join": behind_join,
     "leave": behind_leave,
@@ -116,9 +119,7 @@ ACTIONS = {
 
 def behind(state, step):
     """Returns the state behind a step, whatever it is, None if it does not fit."""
-    if not isinstance(step, tuple) or len(step) == 0 or not isinstance(step[0], str):
-        return None
-    if step[0] not in LENGTHS or len(step) != LENGTHS[step[0]]:
+    if not is_form_of(step, FORMS):
         return None
     action = ACTIONS[step[0]]
     return action(state, step)
@@ -242,3 +243,9 @@ class Plan:
         if not is_from_to(moment, 0, len(self._steps)):
             raise InvalidMoment(moment)
         return self._states[moment]
+
+
+def check_plan(plan):
+    """Raises NotAPlan if this is no plan."""
+    if not isinstance(plan, Plan):
+        raise NotAPlan(plan)
