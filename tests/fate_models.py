@@ -193,6 +193,33 @@ def widened_step(step, width):
     return step[:3] + (tuple(mark * width + width - 1 for mark in step[3]),)
 
 
+def turned_hosts(hosts, turn, points, other_name):
+    """Returns hosts with their marks moved round and other names."""
+    return tuple(
+        (other_name[name], rack, tuple(sorted((mark + turn) % points for mark in marks)))
+        for name, rack, marks in hosts
+    )
+
+
+def turned_step(step, turn, points, other_name):
+    if step[0] == "join":
+        return step[:1] + turned_hosts((step[1:],), turn, points, other_name)[0]
+    return step[:1] + tuple(other_name[name] for name in step[1:])
+
+
+def turned(plan, numbers):
+    """Returns how far marks are moved, the other names, and the plan with these and its hosts in another order."""
+    points = plan.ring.points
+    turn = numbers.below(points)
+    names = sorted({host[0] for moment in range(len(plan) + 1) for host in plan.counting(moment).hosts}
+                   | {step[1] for step in plan.steps if step[0] == "join"})
+    # The last name comes first now.
+    other_name = {name: f"m{99 - k}" for k, name in enumerate(names)}
+    hosts = turned_hosts(numbers.chosen(plan.ring.hosts, len(plan.ring)), turn, points, other_name)
+    steps = tuple(turned_step(step, turn, points, other_name) for step in plan.steps)
+    return turn, other_name, Plan(ring_with(plan.ring, hosts), steps)
+
+
 def ruled(plan, write, read, pending):
     """Returns the plan with other numbers for writes and reads."""
     return Plan(plan.ring.ruled(write, read, pending), plan.steps)

@@ -8,20 +8,9 @@ from ringshares.errors import Broken, InvalidIndex, InvalidStep, InvalidWish, No
 from tests.fate_models import JOIN, SETTLE, WHOLE
 from tests.support import Numbers, plain_ring
 from tests.test_desks import desk_of, shown
+from tests.trial_rows import TrialRows
 
 COPY = WHOLE[1]
-
-
-class Stopped(Exception):
-    """What ends the rows of some trials."""
-
-
-class Halted(BaseException):
-    """What ends the rows of some trials and is no Exception."""
-
-
-def stop(desk):
-    raise Stopped
 
 
 def acts():
@@ -131,181 +120,42 @@ class Undone(unittest.TestCase):
         self.assertEqual((desk.changes, len(desk)), (0, 0))
 
 
-class Trials(unittest.TestCase):
+class Trials(TrialRows, unittest.TestCase):
+    def begun(self):
+        desk = Desk(plain_ring())
+        desk.promise(("able",))
+        desk.do(JOIN)
+        return desk
+
     def changed(self, desk):
         desk.do(COPY)
         desk.lift(0)
         desk.do(SETTLE)
 
-    def begun(self):
-        """Returns a desk with a promise, a step and its condition."""
-        desk = Desk(plain_ring())
-        desk.promise(("able",))
-        desk.do(JOIN)
-        return desk, shown(desk)
+    def little(self, desk):
+        desk.promise(("racks", 1))
 
-    def test_rows_that_end_with_an_exception(self):
-        for ending in (Stopped, Halted, KeyboardInterrupt, GeneratorExit, NothingToUndo, ValueError):
-            desk, before = self.begun()
-            error = ending()
-            with self.assertRaises(ending) as caught:
-                with desk.trial() as same:
-                    self.assertIs(same, desk)
-                    self.changed(desk)
-                    self.assertEqual(desk.changes, 5)
-                    raise error
-            self.assertIs(caught.exception, error)
-            self.assertEqual(shown(desk), before)
-            with self.assertRaises(ending):
-                desk.tried(action=self.ends_with(ending))
-            self.assertEqual(shown(desk), before)
+    def refused(self, desk):
+        desk.promise(("racks", 5))
 
-    def ends_with(self, ending):
-        def action(desk):
-            self.changed(desk)
-            raise ending()
-        return action
+    def shown(self, desk):
+        return shown(desk)
 
-    def test_rows_that_end_otherwise(self):
-        desk, _ = self.begun()
-        other, _ = self.begun()
-        self.changed(other)
-        with desk.trial():
-            self.changed(desk)
-        self.assertEqual(shown(desk), shown(other))
-        self.assertEqual(self.returned_from(self.begun()[0]), shown(other))
-        desk, _ = self.begun()
-        for k in range(3):
-            with desk.trial():
-                if k == 1:
-                    break
-                desk.promise(("racks", 1))
-        self.assertEqual(desk.changes, 3)
-
-    def returned_from(self, desk):
-        with desk.trial() as same:
-            self.changed(same)
-            return shown(desk)
-
-    def test_tried_returns_what_the_function_returns(self):
-        desk, before = self.begun()
-        for value in (None, 0, (), desk, "x", Stopped):
-            self.assertIs(desk.tried(lambda same: value), value)
-            self.assertIs(desk.tried(action=lambda same: value), value)
-        self.assertIs(desk.tried(lambda same: same), desk)
-        self.assertEqual(shown(desk), before)
-        self.assertEqual(desk.tried(len), 1)
-        self.assertEqual(desk.tried(lambda same: same.do(COPY) or same.changes), 3)
-
-    def test_a_refused_call_that_ends_the_rows(self):
-        desk, before = self.begun()
+    def test_steps_promises_and_rings(self):
+        desk = self.begun()
         with self.assertRaises(Broken) as caught:
             with desk.trial():
-                desk.do(COPY)
+                self.changed(desk)
+                self.assertEqual((desk.ring, desk.promises), (plain_ring().joined("d", "r2", (0,)), ()))
+                desk.undo()
+                desk.undo()
                 desk.do(("down", "a"))
-        self.assertEqual((caught.exception.index, shown(desk)), (0, before))
+        self.assertEqual(caught.exception.index, 0)
+        self.assertEqual((desk.ring, desk.promises, desk.plan.steps), (plain_ring(), (("able",),), (JOIN,)))
         with desk.trial():
             desk.do(COPY)
             self.assertRaises(Broken, desk.do, ("down", "a"))
-        self.assertEqual(desk.changes, 3)
-
-    def test_undo_goes_back_behind_the_beginning(self):
-        desk, before = self.begun()
-        with self.assertRaises(Stopped):
-            with desk.trial():
-                desk.undo()
-                desk.undo()
-                self.assertRaises(NothingToUndo, desk.undo)
-                desk.do(("wipe", "a"))
-                raise Stopped
-        self.assertEqual(shown(desk), before)
-        with desk.trial():
-            desk.undo()
-            desk.undo()
-            desk.do(("wipe", "a"))
-        self.assertEqual((desk.plan.steps, desk.promises, desk.changes), ((("wipe", "a"),), (), 1))
-        desk.undo()
-        self.assertRaises(NothingToUndo, desk.undo)
-
-    def test_undo_behind_a_trial(self):
-        desk, before = self.begun()
-        desk.tried(self.changed)
-        for _ in range(3):
-            desk.undo()
-        self.assertEqual(shown(desk), before)
-        self.assertRaises(Stopped, desk.tried, self.ends_with(Stopped))
-        desk.undo()
-        self.assertEqual((len(desk), desk.changes), (0, 1))
-
-    def nested(self, desk, trials, stops, rows):
-        """Makes trials within trials; those whose depth is among the stops end with an exception."""
-        if not trials:
-            return
-        depth = 4 - len(trials)
-        rows.append(shown(desk))
-        try:
-            with trials[0] as same:
-                same.promise(("racks", 1))
-                self.nested(desk, trials[1:], stops, rows)
-                same.promise(("racks", 1))
-                if depth in stops:
-                    raise Stopped
-        except Stopped:
-            self.assertEqual(shown(desk), rows[depth - 1])
-
-    def test_three_deep(self):
-        for stops in ((), (1,), (2,), (3,), (1, 2), (2, 3), (1, 3), (1, 2, 3)):
-            for same in (False, True):
-                desk, before = self.begun()
-                one = desk.trial()
-                trials = [one, one, one] if same else [one, desk.trial(), desk.trial()]
-                self.nested(desk, trials, stops, [])
-                kept = 0
-                for depth in (3, 2, 1):
-                    kept = 0 if depth in stops else kept + 2
-                self.assertEqual(desk.changes, before[3] + kept)
-                self.assertEqual(len(desk.promises), 1 + kept)
-
-    def test_an_exception_through_all_of_them(self):
-        desk, before = self.begun()
-        one = desk.trial()
-        with self.assertRaises(Stopped):
-            with one:
-                desk.do(COPY)
-                with one:
-                    desk.undo()
-                    desk.undo()
-                    desk.tried(stop)
-        self.assertEqual(shown(desk), before)
-
-    def test_one_object_again_and_again(self):
-        desk, before = self.begun()
-        one = desk.trial()
-        desk.promise(("safe",))
-        with self.assertRaises(Stopped):
-            with one:
-                desk.do(COPY)
-                raise Stopped
-        # It goes back to where the rows began, not to where the object was made.
-        self.assertEqual((desk.changes, len(desk.promises)), (before[3] + 1, 2))
-        with one:
-            desk.do(COPY)
-        self.assertEqual(desk.changes, before[3] + 2)
-        with self.assertRaises(Stopped):
-            with one:
-                desk.do(("wipe", "d"))
-                raise Stopped
-        self.assertEqual(desk.plan.steps, (JOIN, COPY))
-
-    def test_another_desk_stays_as_it_is(self):
-        one, before = self.begun()
-        other, _ = self.begun()
-        with self.assertRaises(Stopped):
-            with one.trial():
-                other.do(COPY)
-                one.do(COPY)
-                raise Stopped
-        self.assertEqual((shown(one), other.plan.steps), (before, (JOIN, COPY)))
+        self.assertEqual((desk.plan.steps, desk.changes), ((JOIN, COPY), 3))
 
 
 if __name__ == "__main__":

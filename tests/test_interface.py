@@ -4,6 +4,14 @@ import ast
 import inspect
 import unittest
 from importlib import import_module
+from pathlib import Path
+
+# In the order in which the interface lists them.
+MODULES = (
+    "limits", "errors", "rings", "cells", "likeness", "falls", "plans", "fates", "copies", "mends", "desks", "shelves",
+    "checker", "certificates", "console",
+)
+HELPERS = ("basics", "trials")
 
 FUNCTIONS = {
     "cells": {
@@ -18,22 +26,33 @@ FUNCTIONS = {
     },
     "copies": {"copies": ("ring", "step"), "change": ("ring", "step")},
     "mends": {"holds": ("plan", "wish"), "stands": ("ring", "wish"), "mends": ("plan", "wishes", "further")},
+    "checker": {"accepts": ("claim", "certificate")},
+    "certificates": {
+        "certify": ("plan", "wish"), "certify_rings": ("one", "other"), "certify_share": ("ring", "name"),
+    },
 }
 
 CLASSES = {
     "rings": ("Ring", {
         "__init__": ("points", "factor", "spread", "write", "read", "pending", "hosts"), "read": ("text",),
         "walk": ("point",), "keepers": ("point",), "joined": ("name", "rack", "marks"), "left": ("name",),
-        "ruled": ("write", "read", "pending"),
+        "ruled": ("write", "read", "pending"), "__len__": (), "__getitem__": ("at",), "__contains__": ("x",), "__str__": (),
+        "__eq__": ("other",),
     }, ("points", "factor", "spread", "write", "read_number", "pending", "hosts", "names")),
     "plans": ("Plan", {
         "__init__": ("ring", "steps"), "read": ("text",), "counting": ("moment",), "coming": ("moment",),
         "fallen": ("moment",), "keepers": ("point", "moment"), "pendings": ("point", "moment"), "then": ("step",),
+        "__len__": (), "__str__": (), "__eq__": ("other",),
     }, ("ring", "steps")),
     "desks": ("Desk", {
         "__init__": ("ring",), "do": ("step",), "promise": ("wish",), "lift": ("index",), "undo": (), "trial": (),
         "tried": ("action",), "__len__": (),
     }, ("plan", "ring", "promises", "changes")),
+    "shelves": ("Shelf", {
+        "__init__": (), "__setitem__": ("at", "worth"), "__getitem__": ("at",), "remove": ("name",), "wish": ("wish",),
+        "lift": ("index",), "undo": (), "trial": (), "tried": ("action",), "__contains__": ("x",), "__len__": (),
+    }, ("names", "wishes", "changes")),
+    "console": ("Console", {"__init__": ("ring",), "say": ("line",)}, ("desk",)),
 }
 
 
@@ -68,15 +87,25 @@ class Interface(unittest.TestCase):
             if "read" in methods:
                 self.assertIsInstance(listed["read"], classmethod)
 
+    def needed(self, file):
+        """Returns the modules that a module needs, and those that these need."""
+        found = []
+        for node in ast.walk(ast.parse(inspect.getsource(import_module("ringshares." + file)))):
+            if isinstance(node, ast.ImportFrom):
+                name = node.module.split(".")[1]
+                found += [name] + self.needed(name)
+        return found
+
     def test_modules_need_only_those_listed_ahead(self):
-        ahead = [
-            "limits", "errors", "rings", "cells", "likeness", "falls", "plans", "fates", "copies", "mends", "desks",
-        ]
-        for at, file in enumerate(ahead):
-            module = import_module("ringshares." + file)
-            for node in ast.walk(ast.parse(inspect.getsource(module))):
-                if isinstance(node, ast.ImportFrom) and node.module.split(".")[1] in ahead:
-                    self.assertIn(node.module.split(".")[1], ahead[:at], file)
+        for at, file in enumerate(MODULES):
+            for name in self.needed(file):
+                self.assertIn(name, MODULES[:at] + HELPERS, file)
+
+    def test_all_files_are_listed_here(self):
+        package = import_module("ringshares")
+        files = sorted(path.stem for path in Path(package.__file__).parent.glob("*.py"))
+        self.assertEqual(files, sorted(MODULES + HELPERS + ("__init__",)))
+        self.assertEqual([name for name in vars(package) if not name.startswith("__") and name not in MODULES + HELPERS], [])
 
 
 if __name__ == "__main__":

@@ -6,7 +6,7 @@ from ringshares.errors import InvalidStep
 from ringshares.fates import halted, holders, is_able, is_safe, lost, lost_at, wanted
 from ringshares.plans import Plan
 from ringshares.rings import Ring
-from tests.fate_models import JOIN, SETTLE, WHOLE, of_many_points, plain_plan, ruled, some_plans
+from tests.fate_models import JOIN, SETTLE, WHOLE, of_many_points, plain_plan, ruled, some_plans, turned
 from tests.models import plain_states
 from tests.support import Numbers
 
@@ -97,26 +97,6 @@ class Known(unittest.TestCase):
         self.assertEqual(lost(quiet.then(("up", "a")).then(("up", "b")))[3], 8)
 
 
-def turned(plan, numbers):
-    """Returns the plan with all marks moved round by the same number, other names, the hosts in another order."""
-    turn = numbers.below(plan.ring.points)
-    points = plan.ring.points
-    hosts = tuple(
-        ("x" + name[:7], rack, tuple(sorted((mark + turn) % points for mark in marks)))
-        for name, rack, marks in numbers.chosen(plan.ring.hosts, len(plan.ring))
-    )
-    ring = plan.ring
-    steps = []
-    for step in plan.steps:
-        if step[0] == "join":
-            step = step[:3] + (tuple(sorted((mark + turn) % points for mark in step[3])),)
-            steps.append(("join", "x" + step[1][:7]) + step[2:])
-        else:
-            steps.append(step[:1] + tuple("x" + name[:7] for name in step[1:]))
-    return turn, Plan(Ring(points, ring.factor, ring.spread, ring.write, ring.read_number, ring.pending, hosts),
-                      tuple(steps))
-
-
 class NeverMore(unittest.TestCase):
     def assert_no_more_lost(self, plan, other):
         """Holds that the other plan loses no key that the one does not lose."""
@@ -164,14 +144,14 @@ class NeverMore(unittest.TestCase):
     def test_moved_round_renamed_and_in_another_order(self):
         numbers = Numbers(4)
         for plan in PLANS[::2]:
-            turn, other = turned(plan, numbers)
+            turn, other_name, other = turned(plan, numbers)
             self.assertEqual([is_safe(plan), is_able(plan)], [is_safe(other), is_able(other)])
             for key in range(0, plan.ring.points, 4):
                 point = (key + turn) % plan.ring.points
                 self.assertEqual(lost_at(plan, key) is None, lost_at(other, point) is None)
                 for moment in range(0, len(plan) + 1, 3):
                     many, names = wanted(plan, key, moment)
-                    told = tuple(sorted("x" + name[:7] for name in names))
+                    told = tuple(sorted(other_name[name] for name in names))
                     self.assertEqual(wanted(other, point, moment), (many, told))
 
     def test_so_many_times_the_points(self):
