@@ -1,4 +1,4 @@
-"""Some of the language's rules that a test can see in each file of the package (L1, L2, L7, L8, L10, L14, L16)."""
+"""Some of the language's rules that a test can see in each file of the package (L1, L2, L5, L7, L8, L10, L14 to L18, L20)."""
 
 import ast
 import builtins
@@ -16,6 +16,11 @@ RuntimeError NotImplementedError AttributeError StopIteration NotImplemented
 
 LIBRARY = {"heapq", "math", "itertools", "collections", "__future__"}
 
+BARRED_NAMES = set("""
+register mro elements open input law version_info with_traceback add_note attrgetter breakpoint builtins compile
+copyright credits delattr dir eval exec exit gc globals help id importlib license locals methodcaller os quit type vars sys
+""".split())
+
 BARRED = (ast.Global, ast.AsyncFunctionDef, ast.Await, ast.Import, ast.Div, ast.GeneratorExp)
 
 
@@ -32,6 +37,21 @@ def defined_in(path):
         if isinstance(node, ast.Assign):
             found.update(target.id for target in node.targets)
     return found
+
+
+def functions_in(path):
+    return [node for node in ast.walk(ast.parse(path.read_text())) if isinstance(node, ast.FunctionDef)]
+
+
+def named_in(function):
+    """Returns the names of the parameters and of the variables of a function."""
+    stored = [node.id for node in ast.walk(function) if isinstance(node, ast.Name) and isinstance(node.ctx, ast.Store)]
+    return {parameter.arg for parameter in function.args.args} | set(stored)
+
+
+def imported_by(path):
+    tree = ast.parse(path.read_text())
+    return {name.name for node in tree.body if isinstance(node, ast.ImportFrom) for name in node.names}
 
 
 class Language(unittest.TestCase):
@@ -67,6 +87,39 @@ class Language(unittest.TestCase):
                     self.assertNotIsInstance(node.value, (float, complex), path)
                 if isinstance(node, ast.Name) and hasattr(builtins, node.id):
                     self.assertIn(node.id, BUILTINS, path)
+
+    def test_names_mean_one_thing(self):
+        for path in files():
+            classes = {node.name for node in ast.parse(path.read_text()).body if isinstance(node, ast.ClassDef)}
+            for function in functions_in(path):
+                for name in named_in(function):
+                    self.assertNotIn(name, imported_by(path) | classes | BARRED_NAMES, (path, function.name))
+                    self.assertFalse(hasattr(builtins, name), (path, function.name, name))
+
+    def test_all_that_is_imported_is_used(self):
+        for path in files():
+            used = {node.id for node in ast.walk(ast.parse(path.read_text())) if isinstance(node, ast.Name)}
+            self.assertEqual(imported_by(path) - used, set(), path)
+
+    def test_properties_methods_and_attributes_have_other_names(self):
+        properties, methods, attributes = set(), set(), set()
+        for path in files():
+            for function in functions_in(path):
+                if function.args.args and function.args.args[0].arg == "self":
+                    is_property = [mark.id for mark in function.decorator_list] == ["property"]
+                    (properties if is_property else methods).add(function.name)
+            for node in ast.walk(ast.parse(path.read_text())):
+                if isinstance(node, ast.Attribute) and isinstance(node.ctx, ast.Store):
+                    attributes.add(node.attr)
+        for one, other in ((properties, methods), (properties, attributes), (methods, attributes)):
+            self.assertEqual(one & other, set())
+        self.assertEqual({name for name in properties if hasattr(str, name) or hasattr(list, name) or hasattr(dict, name)}, set())
+
+    def test_is_asks_for_none_alone(self):
+        for path in files():
+            for node in ast.walk(ast.parse(path.read_text())):
+                if isinstance(node, ast.Compare) and any(isinstance(sign, (ast.Is, ast.IsNot)) for sign in node.ops):
+                    self.assertEqual([ast.unparse(value) for value in node.comparators], ["None"], path)
 
 
 if __name__ == "__main__":

@@ -94,7 +94,7 @@ class Holders(unittest.TestCase):
                 self.assertEqual(again, told)
 
     def test_each_write_at_each_later_moment(self):
-        for at, plan in enumerate(PLANS[::3]):
+        for at, plan in enumerate(PLANS[::6]):
             self.assert_followed(plan, at % plan.ring.points)
 
     def test_copies_go_from_keepers_to_pendings_alone(self):
